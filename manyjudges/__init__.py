@@ -1,0 +1,1 @@
+"""Judges who say yes and no to sayings."""
