@@ -1,4 +1,7 @@
-"""Sayings that several tests ask of."""
+"""Sayings, lists and judges that several tests ask of, and a plain reckoning of what is to be told."""
+
+import itertools
+import random
 
 A = ("letter", "a")
 B = ("letter", "b")
@@ -34,6 +37,13 @@ def broad(names):
     return (PAIRED[len(names) % 3], broad(names[:half]), broad(names[half:]))
 
 
+def and_of(names):
+    saying = ("letter", names[0])
+    for name in names[1:]:
+        saying = ("and", saying, ("letter", name))
+    return saying
+
+
 def all_of(pieces, names):
     """All sayings of just so many pieces over the names."""
     if pieces == 1:
@@ -63,3 +73,145 @@ def bits_of(saying, names):
         return full ^ one
     other = bits_of(saying[2], names)
     return {"and": one & other, "or": one | other, "if": full ^ one | other}[kind]
+
+
+def some_saying(draw, pieces, names):
+    """A saying of just so many pieces, drawn."""
+    if pieces == 1:
+        return ("letter", draw.choice(names))
+    if pieces == 2 or draw.randrange(4) == 0:
+        return no(some_saying(draw, pieces - 1, names))
+    ahead = draw.randrange(1, pieces - 1)
+    kind = draw.choice(PAIRED)
+    return (kind, some_saying(draw, ahead, names), some_saying(draw, pieces - 1 - ahead, names))
+
+
+def some_list(draw, many, names, most_pieces):
+    """So many sayings, with just these names together, of up to ten more pieces for five names."""
+    sayings = []
+    for number in range(many):
+        share = names[number::many]
+        ends = [some_saying(draw, draw.randrange(1, most_pieces + 1), names)]
+        ends.extend(("letter", name) for name in share)
+        draw.shuffle(ends)
+        saying = ends[0]
+        for further in ends[1:]:
+            saying = (draw.choice(PAIRED), saying, further)
+        sayings.append(saying)
+    return tuple(sayings)
+
+
+def pieces_of(saying):
+    if saying[0] == "letter":
+        return [saying]
+    return [saying] + [piece for inner in saying[1:] for piece in pieces_of(inner)]
+
+
+def names_among(sayings):
+    return tuple(sorted({piece[1] for saying in sayings for piece in pieces_of(saying) if piece[0] == "letter"}))
+
+
+# Not sorted, and some begin others, so that an order by chance is told from a sorted one.
+MIXED_NAMES = ("b", "aa", "letter", "a", "ab")
+EACH_WAY = tuple(no(some_saying(random.Random(seed), 39, FIVE_NAMES)) for seed in range(6))
+
+WRITTEN_LISTS = (
+    (A,),
+    (no(A),),
+    (("and", A, no(A)),),
+    (("or", A, no(A)),),
+    (A, A),
+    (A, no(A)),
+    (A, B),
+    (A, B, ("and", A, B)),
+    (("and", A, B), A, B),
+    (A, ("if", A, B), B),
+    (A, B, ("or", A, B), ("if", A, B)),
+    (("and", A, B), ("and", A, no(B)), ("and", no(A), B)),
+    (("or", A, no(A)), B, ("and", B, no(B))),
+    (A, B, C, ("and", A, ("and", B, C))),
+    (A, B, C, ("or", A, ("or", B, C)), ("if", A, B), no(C)),
+    (no(and_of(FIVE_NAMES[:4])), A, B, ("letter", "d"), C),
+    (("letter", "e"), ("letter", "d"), C, B, A, and_of(FIVE_NAMES)),
+    (A, ("if", A, B), ("if", B, C), C),
+    (no(A), A, no(no(A)), chain_of_not(40)),
+    (B, chain_of_not(39), ("or", A, ("letter", "aa"))),
+    EACH_WAY,
+)
+
+
+def drawn_lists():
+    """Two lists for each number of sayings and of names, with small and with large sayings."""
+    draw = random.Random(20)
+    lists = []
+    for many in range(1, 7):
+        for names in range(1, 6):
+            lists.append(some_list(draw, many, MIXED_NAMES[:names], 3))
+            lists.append(some_list(draw, many, FIVE_NAMES[:names], 30))
+    return tuple(lists)
+
+
+LISTS = WRITTEN_LISTS + drawn_lists()
+
+
+def ways_of(sayings):
+    """A dict from each way to hold the names to its row."""
+    names = names_among(sayings)
+    tables = [bits_of(saying, names) for saying in sayings]
+    ways = {}
+    for k in range(1 << len(names)):
+        held = tuple(name for j, name in enumerate(names) if k >> j & 1)
+        ways[held] = tuple(bool(bits >> k & 1) for bits in tables)
+    return ways
+
+
+def rows_of(sayings):
+    return sorted(set(ways_of(sayings).values()))
+
+
+def has_part(row, part):
+    return all(row[number] is truth for number, truth in part)
+
+
+def is_fit(rows, part):
+    return any(has_part(row, part) for row in rows)
+
+
+def what_follows(rows, part, number):
+    truths = {row[number] for row in rows if has_part(row, part)}
+    return truths.pop() if len(truths) == 1 else None
+
+
+def parts_of(part):
+    """Each part whose pairs are among those of this one, itself too."""
+    return [less for many in range(len(part) + 1) for less in itertools.combinations(part, many)]
+
+
+def one_pair_less(part):
+    return list(itertools.combinations(part, len(part) - 1)) if part else []
+
+
+def all_parts_of(many):
+    return sorted({less for row in itertools.product((False, True), repeat=many)
+                   for less in parts_of(tuple(enumerate(row)))})
+
+
+def what_most_say(judges):
+    return tuple(sum(column) > len(judges) // 2 for column in zip(*judges))
+
+
+def some_judges(draw, rows, many):
+    return tuple(draw.choice(rows) for _ in range(many))
+
+
+def is_part(value):
+    """A tuple of pairs of a whole number and a truth, the numbers rising."""
+    if type(value) is not tuple or any(type(pair) is not tuple or len(pair) != 2 for pair in value):
+        return False
+    numbers = [number for number, truth in value]
+    kinds = all(type(number) is int and type(truth) is bool for number, truth in value)
+    return kinds and all(one < other for one, other in zip(numbers, numbers[1:]))
+
+
+def is_row(value, many):
+    return type(value) is tuple and len(value) == many and all(type(truth) is bool for truth in value)

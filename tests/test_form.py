@@ -1,4 +1,4 @@
-"""The form of the package, as far as a short look can check it: most of L1 to L17, L20, L25 and L27.
+"""The form of the package, as far as a short look can check it: most of L1 to L17, L20, L22 to L25 and L27.
 
 A pass here doesn't show that every rule holds; the rest is for the reader.
 """
@@ -36,6 +36,12 @@ WORDS = re.compile(
     r"\b(type|typing|typing_extensions|enum|Enum|IntEnum|StrEnum|Flag|IntFlag|Generic|Protocol|ABC|ABCMeta"
     r"|namedtuple|NamedTuple|TypedDict|TYPE_CHECKING|abstractmethod)\b|dataclass|overload|contextmanager"
 )
+WALKED = "zip enumerate reversed range items keys values".split()
+WALKERS = "list tuple dict sorted sum any all enumerate zip min max".split()
+KEYWORDS = {
+    "sorted": ("key", "reverse"), "min": ("key", "default"), "max": ("key", "default"), "sum": ("start",),
+    "enumerate": ("start",), "zip": ("strict",),
+}
 UNUSED = "register mro elements open input version_info with_traceback add_note format format_map".split()
 
 
@@ -76,6 +82,39 @@ def bound_name(node):
     if isinstance(node, ast.Name) and isinstance(node.ctx, ast.Store):
         return node.id
     return None
+
+
+def imports_of(tree):
+    return [node for node in tree.body if isinstance(node, ast.ImportFrom)]
+
+
+def called_name(node):
+    """The name of what is called, be it a function or a method."""
+    if not isinstance(node, ast.Call):
+        return None
+    return node.func.attr if isinstance(node.func, ast.Attribute) else getattr(node.func, "id", None)
+
+
+def walked_on_the_spot(tree):
+    """The nodes that stand where L23 lets something be walked."""
+    for node in ast.walk(tree):
+        if isinstance(node, (ast.For, ast.comprehension)):
+            yield node.iter
+        elif isinstance(node, ast.Call) and node.args:
+            if called_name(node) in WALKERS or called_name(node) == "join":
+                yield node.args[0]
+            if called_name(node) == "zip":
+                yield from node.args
+
+
+def where_sets_stand(tree):
+    """The nodes that stand where L24 lets a set be made; sets with signs between are for the reader."""
+    for node in ast.walk(tree):
+        if isinstance(node, ast.Compare):
+            yield node.left
+            yield from node.comparators
+        elif called_name(node) in ("sorted", "len") and not node.keywords:
+            yield from node.args
 
 
 class Form(unittest.TestCase):
@@ -125,6 +164,43 @@ class Form(unittest.TestCase):
                 self.assertEqual((node.level, node.col_offset), (0, 0), place)
                 for drawn in node.names:
                     self.assertIn(drawn.name, defined.get(node.module, []), place)
+
+    def test_no_two_files_draw_from_one_another(self):
+        drawn = {f"manyjudges.{path.stem}": {row.module for row in imports_of(tree)} for path, tree in trees()}
+        self.assertEqual(drawn["manyjudges.__init__"], set())
+        free = set()
+        while free != set(drawn):
+            more = {module for module in drawn if module not in free and drawn[module] <= free}
+            self.assertTrue(more, sorted(set(drawn) - free))
+            free |= more
+
+    def test_no_name_is_called_like_a_class_or_an_import(self):
+        for path, tree in trees():
+            taken = [drawn.name for row in imports_of(tree) for drawn in row.names]
+            taken.extend(node.name for node in tree.body if isinstance(node, ast.ClassDef))
+            bound = [bound_name(node) for node in ast.walk(tree) if not isinstance(node, ast.ClassDef)]
+            self.assertEqual(set(taken) & set(bound), set(), path.name)
+
+    def test_keywords(self):
+        for place, node in nodes():
+            if isinstance(node, ast.Call) and called_name(node) in BUILT_IN + METHODS:
+                for given in node.keywords:
+                    self.assertIn(given.arg, KEYWORDS.get(called_name(node), ()), place)
+
+    def test_walked_at_once_and_sets(self):
+        for path, tree in trees():
+            walked, sets = list(walked_on_the_spot(tree)), list(where_sets_stand(tree))
+            for node in ast.walk(tree):
+                if called_name(node) in WALKED:
+                    self.assertIn(node, walked, f"{path.name}:{node.lineno}")
+                if isinstance(node, ast.Set) or called_name(node) in ("set", "frozenset"):
+                    self.assertIn(node, sets, f"{path.name}:{node.lineno}")
+
+    def test_comprehensions_have_one_for_and_at_most_one_if(self):
+        for place, node in nodes():
+            if isinstance(node, ast.ListComp):
+                self.assertEqual(len(node.generators), 1, place)
+                self.assertLessEqual(len(node.generators[0].ifs), 1, place)
 
     def test_each_name_once_at_the_top(self):
         for path, tree in trees():
