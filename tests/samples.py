@@ -2,12 +2,16 @@
 
 import itertools
 import random
+import unittest
 
 A = ("letter", "a")
 B = ("letter", "b")
 C = ("letter", "c")
 FIVE_NAMES = ("a", "b", "c", "d", "e")
 PAIRED = ("and", "or", "if")
+PREMISES = (A, B, ("and", A, B))
+# Their most is (True, True, False), which isn't fit for these premises.
+THREE = ((True, True, True), (True, False, False), (False, True, False))
 
 
 def no(saying):
@@ -123,7 +127,7 @@ WRITTEN_LISTS = (
     (A, A),
     (A, no(A)),
     (A, B),
-    (A, B, ("and", A, B)),
+    PREMISES,
     (("and", A, B), A, B),
     (A, ("if", A, B), B),
     (A, B, ("or", A, B), ("if", A, B)),
@@ -196,12 +200,71 @@ def all_parts_of(many):
                    for less in parts_of(tuple(enumerate(row)))})
 
 
+def smallest_of(rows, many):
+    return [
+        part for part in all_parts_of(many)
+        if not is_fit(rows, part) and all(is_fit(rows, less) for less in one_pair_less(part))
+    ]
+
+
+def who(judges, number, truth):
+    return tuple(judge for judge, row in enumerate(judges) if row[number] is truth)
+
+
 def what_most_say(judges):
     return tuple(sum(column) > len(judges) // 2 for column in zip(*judges))
 
 
+def row_in_order(rows, judges, order):
+    taken = {}
+    for number in order:
+        taken[number] = what_most_say(judges)[number]
+        if not is_fit(rows, taken.items()):
+            taken[number] = not taken[number]
+    return tuple(taken[number] for number in range(len(order)))
+
+
+def order_by_strength(judges):
+    """Each step takes the strongest saying that is left, the first one of alike ones."""
+    left = list(range(len(judges[0])))
+    order = []
+    while left:
+        best = left[0]
+        for number in left[1:]:
+            if apart(judges, number) > apart(judges, best):
+                best = number
+        left.remove(best)
+        order.append(best)
+    return tuple(order)
+
+
+def apart(judges, number):
+    says_yes, says_no = (len(who(judges, number, truth)) for truth in (True, False))
+    return max(says_yes - says_no, says_no - says_yes)
+
+
+def distance_of(row, judges, weights):
+    far = 0
+    for judge in judges:
+        for number, truth in enumerate(row):
+            if judge[number] is not truth:
+                far += 1 if weights is None else weights[number]
+    return far
+
+
+def nearest_of(rows, judges, weights):
+    far = {row: distance_of(row, judges, weights) for row in sorted(rows)}
+    return [row for row in far if not any(far[other] < far[row] for other in far)]
+
+
 def some_judges(draw, rows, many):
     return tuple(draw.choice(rows) for _ in range(many))
+
+
+def unfit_threes(rows):
+    """Three judges whose most isn't fit, a few where there are such."""
+    threes = itertools.combinations(rows, 3)
+    return list(itertools.islice((three for three in threes if what_most_say(three) not in rows), 3))
 
 
 def is_part(value):
@@ -215,3 +278,42 @@ def is_part(value):
 
 def is_row(value, many):
     return type(value) is tuple and len(value) == many and all(type(truth) is bool for truth in value)
+
+
+class Reasons(unittest.TestCase):
+    """What the tests of answers and of ways ask of a reason."""
+
+    def check_judges(self, reason, judges, number, truth):
+        self.assertEqual(reason, ("judges", who(judges, number, truth)))
+        self.assertIs(type(reason), tuple)
+        self.assertIs(type(reason[1]), tuple)
+        self.assertTrue(all(type(judge) is int for judge in reason[1]))
+
+    def check_follows(self, reason, rows, answers, number, truth):
+        """Of these answers, and as few of them as it follows from."""
+        self.assertIs(type(reason), tuple)
+        self.assertEqual((len(reason), reason[0]), (2, "follows"))
+        part = reason[1]
+        self.assertTrue(is_part(part), part)
+        self.assertLessEqual(set(part), set(answers))
+        self.assertIs(what_follows(rows, part, number), truth)
+        for less in one_pair_less(part):
+            self.assertIsNot(what_follows(rows, less, number), truth)
+
+    def check_in_order(self, row, reasons, rows, judges, order):
+        """Tells how many answers are other ones than most say."""
+        said = what_most_say(judges)
+        self.assertTrue(is_row(row, len(order)))
+        self.assertIn(row, rows)
+        self.assertEqual((type(reasons), len(reasons)), (list, len(order)))
+        ahead, others = [], 0
+        for number in order:
+            if is_fit(rows, ahead + [(number, said[number])]):
+                self.assertIs(row[number], said[number])
+                self.check_judges(reasons[number], judges, number, row[number])
+            else:
+                self.assertIs(row[number], not said[number])
+                self.check_follows(reasons[number], rows, ahead, number, row[number])
+                others = others + 1
+            ahead.append((number, row[number]))
+        return others

@@ -5,9 +5,7 @@ import random
 import unittest
 
 from manyjudges.counts import most, who_say
-from samples import LISTS, is_row, rows_of, some_judges
-
-THREE = ((True, True, True), (True, False, False), (False, True, False))
+from samples import LISTS, THREE, is_row, rows_of, some_judges
 
 
 def plain_numbers(judges, number, truth):

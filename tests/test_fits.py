@@ -6,11 +6,10 @@ import unittest
 
 from manyjudges.fits import fit_rows, fits, follows, names_of, row_of
 from samples import (
-    A, B, C, FIVE_NAMES, LISTS, MIXED_NAMES, all_parts_of, broad, chain_of_not, has_part, is_fit, is_row,
-    names_among, no, rows_of, ways_of, what_follows,
+    A, B, C, FIVE_NAMES, LISTS, MIXED_NAMES, PREMISES, all_parts_of, broad, chain_of_not, has_part, is_fit,
+    is_row, names_among, no, rows_of, ways_of, what_follows,
 )
 
-PREMISES = (A, B, ("and", A, B))
 ALWAYS = ("or", A, no(A))
 NEVER = ("and", A, no(A))
 

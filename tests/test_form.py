@@ -1,4 +1,4 @@
-"""The form of the package, as far as a short look can check it: most of L1 to L17, L20, L22 to L25 and L27.
+"""The form of the package, as far as a short look can check it: most of L1 to L18, L20 and L22 to L28.
 
 A pass here doesn't show that every rule holds; the rest is for the reader.
 """
@@ -42,6 +42,9 @@ KEYWORDS = {
     "sorted": ("key", "reverse"), "min": ("key", "default"), "max": ("key", "default"), "sum": ("start",),
     "enumerate": ("start",), "zip": ("strict",),
 }
+NOT_AS_VALUES = """
+    items keys values pop update append clear extend insert remove reverse setdefault sort args encode format
+""".split()
 UNUSED = "register mro elements open input version_info with_traceback add_note format format_map".split()
 
 
@@ -226,6 +229,39 @@ class Form(unittest.TestCase):
                 self.assertNotIn(node.attr, UNUSED, place)
             if isinstance(node, ast.Call) and isinstance(node.func, ast.Attribute):
                 self.assertIn(node.func.attr, METHODS + own, place)
+
+    def test_class_bodies(self):
+        for path, tree in trees():
+            for node in methods_of(tree):
+                self.assertIsInstance(node, (ast.FunctionDef, ast.Pass), f"{path.name}:{node.lineno}")
+            for node in [node for node in tree.body if isinstance(node, ast.ClassDef)]:
+                named = [inner.name for inner in node.body if isinstance(inner, ast.FunctionDef)]
+                self.assertEqual(len(named), len(set(named)), node.name)
+
+    def test_values_of_objects(self):
+        methods = [node.name for path, tree in trees() for node in methods_of(tree)
+                   if isinstance(node, ast.FunctionDef)]
+        for place, node in nodes():
+            if isinstance(node, ast.Attribute) and isinstance(node.ctx, ast.Store):
+                self.assertEqual(ast.unparse(node.value), "self", place)
+                self.assertNotIn(node.attr, methods + NOT_AS_VALUES, place)
+
+    def test_init_gives_back_nothing(self):
+        for place, node in nodes():
+            if isinstance(node, ast.FunctionDef) and node.name == "__init__":
+                for inner in ast.walk(node):
+                    self.assertFalse(isinstance(inner, ast.Return) and inner.value is not None, place)
+
+    def test_a_class_is_only_called_a_base_or_raised(self):
+        own = [node.name for path, tree in trees() for node in tree.body if isinstance(node, ast.ClassDef)]
+        for path, tree in trees():
+            called = [node.func for node in ast.walk(tree) if isinstance(node, ast.Call)]
+            called.extend(base for node in ast.walk(tree) if isinstance(node, ast.ClassDef) for base in node.bases)
+            called.extend(node.type for node in ast.walk(tree) if isinstance(node, ast.ExceptHandler))
+            called.extend(node.args[1] for node in ast.walk(tree) if called_name(node) == "isinstance")
+            for node in ast.walk(tree):
+                if isinstance(node, ast.Name) and node.id in own:
+                    self.assertIn(node, called, f"{path.name}:{node.lineno}")
 
     def test_is_and_powers(self):
         for place, node in nodes():

@@ -8,17 +8,11 @@ import unittest
 from manyjudges.errors import Barred
 from manyjudges.orders import grounds_first, in_order
 from samples import (
-    A, B, C, FIVE_NAMES, LISTS, is_fit, is_part, is_row, no, one_pair_less, rows_of, some_judges, what_follows,
-    what_most_say,
+    A, B, C, FIVE_NAMES, LISTS, PREMISES, THREE, Reasons, is_fit, is_part, no, one_pair_less, rows_of, some_judges,
+    unfit_threes, what_follows, what_most_say,
 )
 
-PREMISES = (A, B, ("and", A, B))
-THREE = ((True, True, True), (True, False, False), (False, True, False))
 NUMBERS_OF_JUDGES = (1, 3, 5, 21)
-
-
-def who(judges, number, truth):
-    return tuple(judge for judge, row in enumerate(judges) if row[number] is truth)
 
 
 def some_orders(draw, many):
@@ -33,56 +27,16 @@ def all_grounds(many):
     return [some for size in range(many + 1) for some in itertools.combinations(range(many), size)]
 
 
-def unfit_threes(rows):
-    """Three judges whose most isn't fit, a few where there are such."""
-    threes = itertools.combinations(rows, 3)
-    return list(itertools.islice((three for three in threes if what_most_say(three) not in rows), 3))
-
-
 def all_judges(draw, rows):
     return [some_judges(draw, rows, many) for many in NUMBERS_OF_JUDGES] + unfit_threes(rows)
 
 
-class Reasons(unittest.TestCase):
-    def check_judges(self, reason, judges, number, truth):
-        self.assertEqual(reason, ("judges", who(judges, number, truth)))
-        self.assertIs(type(reason), tuple)
-        self.assertIs(type(reason[1]), tuple)
-        self.assertTrue(all(type(judge) is int for judge in reason[1]))
-
-    def check_follows(self, reason, rows, answers, number, truth):
-        """Of these answers, and as few of them as it follows from."""
-        self.assertIs(type(reason), tuple)
-        self.assertEqual((len(reason), reason[0]), (2, "follows"))
-        part = reason[1]
-        self.assertTrue(is_part(part), part)
-        self.assertLessEqual(set(part), set(answers))
-        self.assertIs(what_follows(rows, part, number), truth)
-        for less in one_pair_less(part):
-            self.assertIsNot(what_follows(rows, less, number), truth)
-
-
 class InOrder(Reasons):
     def check(self, sayings, judges, order):
-        """Tells how many answers are other ones than most say."""
-        rows, said = rows_of(sayings), what_most_say(judges)
         told = in_order(sayings, judges, order)
         self.assertEqual((type(told), len(told)), (tuple, 2))
         row, reasons = told
-        self.assertTrue(is_row(row, len(sayings)))
-        self.assertIn(row, rows)
-        self.assertEqual((type(reasons), len(reasons)), (list, len(sayings)))
-        ahead, others = [], 0
-        for number in order:
-            if is_fit(rows, ahead + [(number, said[number])]):
-                self.assertIs(row[number], said[number])
-                self.check_judges(reasons[number], judges, number, row[number])
-            else:
-                self.assertIs(row[number], not said[number])
-                self.check_follows(reasons[number], rows, ahead, number, row[number])
-                others = others + 1
-            ahead.append((number, row[number]))
-        return others
+        return self.check_in_order(row, reasons, rows_of(sayings), judges, order)
 
     def test_premises_ahead(self):
         self.assertEqual(in_order(PREMISES, THREE, (0, 1, 2)), ((True, True, True), [

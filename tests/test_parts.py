@@ -7,18 +7,9 @@ import unittest
 
 from manyjudges.parts import always_fit, smallest_unfit
 from samples import (
-    A, B, C, FIVE_NAMES, LISTS, all_parts_of, and_of, chain_of_not, is_fit, is_part, no, one_pair_less,
-    rows_of, some_judges, what_most_say,
+    A, B, C, FIVE_NAMES, LISTS, PREMISES, all_parts_of, and_of, chain_of_not, is_fit, is_part, no, rows_of,
+    smallest_of, some_judges, what_most_say,
 )
-
-PREMISES = (A, B, ("and", A, B))
-
-
-def smallest_of(rows, many):
-    return [
-        part for part in all_parts_of(many)
-        if not is_fit(rows, part) and all(is_fit(rows, less) for less in one_pair_less(part))
-    ]
 
 
 def most_of_three_is_fit(rows):
