@@ -1,8 +1,12 @@
 """Sayings, lists and judges that several tests ask of, and a plain reckoning of what is to be told."""
 
+import functools
 import itertools
 import random
+import re
 import unittest
+
+from manyjudges.errors import BadRow, Even, JudgeError, NoText, OutOfBounds
 
 A = ("letter", "a")
 B = ("letter", "b")
@@ -10,6 +14,7 @@ C = ("letter", "c")
 FIVE_NAMES = ("a", "b", "c", "d", "e")
 PAIRED = ("and", "or", "if")
 PREMISES = (A, B, ("and", A, B))
+BOTH_ANDS = (("and", A, B), A, B, C, ("and", B, C))
 # Their most is (True, True, False), which isn't fit for these premises.
 THREE = ((True, True, True), (True, False, False), (False, True, False))
 
@@ -280,6 +285,113 @@ def is_row(value, many):
     return type(value) is tuple and len(value) == many and all(type(truth) is bool for truth in value)
 
 
+SEVEN_WORDS = ("not", "and", "or", "if", "then", "say", "judge")
+# Each begins like another one or like a word, or is a word with a letter more or less.
+NEAR_WORDS = tuple("""
+    a aa ab an ad nd andy ands band no nt ot nota nots anot knot o r orr ori for i f iff ifs fif the hen thenn thens
+    athen sa ay sayer says asay essay judg udge judges ajudge n y yn letter zzzzzz
+""".split())
+SIGNS = tuple(chr(code) for code in range(ord(" "), ord("~") + 1)) + ("\n",)
+FORMS = {"not": "not {}", "and": "({} and {})", "or": "({} or {})", "if": "(if {} then {})"}
+
+
+def text_of(saying):
+    if saying[0] == "letter":
+        return saying[1]
+    return FORMS[saying[0]].format(*(text_of(inner) for inner in saying[1:]))
+
+
+def text_for(sayings, judges):
+    text = "".join(f"say {text_of(saying)}\n" for saying in sayings)
+    return text + "\n".join("judge " + "".join("ny"[truth] for truth in row) for row in judges)
+
+
+@functools.lru_cache(maxsize=100000)
+def saying_in(text):
+    """The saying of any number of pieces that is so written, or None: by all places where the text can be parted."""
+    if re.fullmatch("[a-z]{1,6}", text):
+        return None if text in SEVEN_WORDS else ("letter", text)
+    for kind, form in FORMS.items():
+        ahead, *between, behind = form.split("{}")
+        if len(text) > len(ahead + behind) and text.startswith(ahead) and text.endswith(behind):
+            inner = text[len(ahead):len(text) - len(behind)]
+            for parted in [(inner,)] if not between else parted_by(inner, between[0]):
+                found = tuple(saying_in(part) for part in parted)
+                if None not in found:
+                    return (kind,) + found
+    return None
+
+
+def parted_by(text, between):
+    """Each two texts with this one between them, wherever it comes, but for those with a bracket too many."""
+    places = [place for place in range(len(text)) if text.startswith(between, place)]
+    pairs = [(text[:place], text[place + len(between):]) for place in places]
+    return [pair for pair in pairs if all(part.count("(") == part.count(")") for part in pair)]
+
+
+def list_in(text):
+    """The list and judges that are so written, however many and whatever they say, or None."""
+    if type(text) is not str or not re.fullmatch(r"(say [^\n]+\n)+judge [yn]+(\njudge [yn]+)*", text):
+        return None
+    sayings = tuple(saying_in(line) for line in re.findall(r"(?<![^\n])say ([^\n]+)", text))
+    judges = tuple(tuple(letter == "y" for letter in line) for line in re.findall(r"(?<=\n)judge ([yn]+)", text))
+    if any(saying is None or len(pieces_of(saying)) > 40 for saying in sayings):
+        return None
+    return None if any(len(row) != len(sayings) for row in judges) else (sayings, judges)
+
+
+def refusal_of(sayings, judges):
+    """What point 21 refuses them with, as a class and a number, or None."""
+    if len(sayings) not in range(1, 7) or len(judges) not in range(1, 22):
+        return (OutOfBounds, None)
+    if len(names_among(sayings)) > 5 or max(len(pieces_of(saying)) for saying in sayings) > 40:
+        return (OutOfBounds, None)
+    rows = rows_of(sayings)
+    for number, row in enumerate(judges):
+        if not is_row(row, len(sayings)) or row not in rows:
+            return (BadRow, number)
+    return (Even, None) if len(judges) % 2 == 0 else None
+
+
+def refusal_of_text(text):
+    """What points 20 and 21 refuse a text with, or None."""
+    found = list_in(text)
+    return (NoText, None) if found is None else refusal_of(*found)
+
+
+def is_pair(told):
+    """A tuple of two tuples, the second one of rows for the first one."""
+    kinds = [type(value) for value in (told, *told)]
+    return kinds == [tuple] * 3 and all(is_row(row, len(told[0])) for row in told[1])
+
+
+def asked(ask, *handed):
+    """What is told, and None; or None, and the class and number of the refusal."""
+    try:
+        return ask(*handed), None
+    except JudgeError as refusal:
+        return None, (type(refusal), getattr(refusal, "number", None))
+
+
+NUMBER = "(?:0|[1-9][0-9]*)"
+PAIR = f"(?:yes|no) {NUMBER}"
+LINE = re.compile(f"(yes|no) ([^:]+): (?:judges (none|{NUMBER}(?: {NUMBER})*)|from ({PAIR}(?:, {PAIR})*))")
+
+
+def line_in(line):
+    """The truth, the saying and the reason that a line of a report tells; None where it isn't so written."""
+    found = LINE.fullmatch(line)
+    if found is None or saying_in(found[2]) is None:
+        return None
+    answer, saying, numbers, pairs = found.groups()
+    if numbers is None:
+        words = [pair.split(" ") for pair in pairs.split(", ")]
+        reason = ("follows", tuple((int(number), word == "yes") for word, number in words))
+    else:
+        reason = ("judges", () if numbers == "none" else tuple(int(number) for number in numbers.split(" ")))
+    return answer == "yes", saying_in(saying), reason
+
+
 class Reasons(unittest.TestCase):
     """What the tests of answers and of ways ask of a reason."""
 
@@ -317,3 +429,11 @@ class Reasons(unittest.TestCase):
                 others = others + 1
             ahead.append((number, row[number]))
         return others
+
+    def check_report(self, text, sayings):
+        """Tells the row and the reasons that the text speaks of."""
+        self.assertIs(type(text), str)
+        lines = [line_in(line) for line in text.split("\n")]
+        self.assertNotIn(None, lines, text)
+        self.assertEqual(tuple(saying for truth, saying, reason in lines), sayings)
+        return tuple(truth for truth, saying, reason in lines), [reason for truth, saying, reason in lines]

@@ -1,4 +1,4 @@
-"""The form of the package, as far as a short look can check it: most of L1 to L18, L20 and L22 to L28.
+"""The form of the package, as far as a short look can check it: most of L1 to L20 and L22 to L28.
 
 A pass here doesn't show that every rule holds; the rest is for the reader.
 """
@@ -262,6 +262,23 @@ class Form(unittest.TestCase):
             for node in ast.walk(tree):
                 if isinstance(node, ast.Name) and node.id in own:
                     self.assertIn(node, called, f"{path.name}:{node.lineno}")
+
+    def test_texts(self):
+        for place, node in nodes():
+            if isinstance(node, ast.FormattedValue):
+                self.assertIsInstance(node.value, ast.Name, place)
+                self.assertIsNone(node.format_spec, place)
+                self.assertIn(node.conversion, (-1, ord("r")), place)
+            if isinstance(node, ast.Constant) and isinstance(node.value, str):
+                self.assertNotIn("%", node.value, place)
+                self.assertRegex(node.value, r"^[\n\t -~]*$", place)
+
+    def test_errors(self):
+        for place, node in nodes():
+            if isinstance(node, ast.Raise):
+                self.assertIsInstance(node.exc, ast.Call, place)
+            # No file takes an error, so that what L19 says of it need not be looked at.
+            self.assertNotIsInstance(node, ast.Try, place)
 
     def test_is_and_powers(self):
         for place, node in nodes():

@@ -8,12 +8,11 @@ import unittest
 from manyjudges.gains import gains
 from manyjudges.ways import ByStrength, InOrder, Most, Nearest
 from samples import (
-    A, B, C, FIVE_NAMES, LISTS, PREMISES, THREE, and_of, distance_of, is_row, nearest_of, order_by_strength,
+    A, B, BOTH_ANDS, FIVE_NAMES, LISTS, PREMISES, THREE, and_of, distance_of, is_row, nearest_of, order_by_strength,
     row_in_order, rows_of, some_judges, unfit_threes, what_most_say,
 )
 
 WEIGHTS = (10 ** 20 - 1, 2, 1, 10 ** 19, 3, 3)
-BOTH_ANDS = (("and", A, B), A, B, C, ("and", B, C))
 NONE, ONLY_A, ONLY_B = (False,) * 5, (False, True, False, False, False), (False, False, True, False, False)
 A_AND_C, B_AND_C, ALL = (False, True, False, True, False), (False, False, True, True, True), (True,) * 5
 
